@@ -59,6 +59,9 @@ const (
 	zeroBits     = 1<<0 | 1<<6 | 1<<7
 )
 
+// Refused is SUBACK's code for a filter that was not taken.
+const Refused = 128
+
 const (
 	kindShift = 4
 	flagsMask = 15
@@ -69,7 +72,6 @@ const (
 	level    = 4
 
 	maxCode = 5
-	refused = 128 // SUBACK's code for a filter that was not taken
 )
 
 // Of a byte of a length.

@@ -150,7 +150,7 @@ func (r *reader) codes(p *api.Packet) {
 	r.want(len(r.rest) > 0, "codes")
 	for len(r.rest) > 0 {
 		code := r.octet()
-		r.want(code <= maxQoS || code == refused, "code")
+		r.want(code <= maxQoS || code == Refused, "code")
 		p.Codes = append(p.Codes, code)
 	}
 }
