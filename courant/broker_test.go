@@ -17,7 +17,12 @@ type trial struct {
 
 func start(t *testing.T) *trial {
 	t.Helper()
-	b, e := New(api.Config{Window: 2, Queue: 2})
+	return startWith(t, 2, 2)
+}
+
+func startWith(t *testing.T, window, queue int) *trial {
+	t.Helper()
+	b, e := New(api.Config{Window: window, Queue: queue})
 	if b == nil || e != api.OK {
 		t.Fatalf("New = %v, %d", b, e)
 	}
@@ -31,6 +36,10 @@ func show(out []api.Out) string {
 		all = append(all, fmt.Sprint(o.Conn, " ", showOne(o)))
 	}
 	return strings.Join(all, "; ")
+}
+
+var names = map[int]string{
+	api.Puback: "PUBACK", api.Pubrec: "PUBREC", api.Pubrel: "PUBREL", api.Pubcomp: "PUBCOMP", api.Unsuback: "UNSUBACK",
 }
 
 func showOne(o api.Out) string {
@@ -48,11 +57,11 @@ func showOne(o api.Out) string {
 	case api.Connack:
 		return fmt.Sprint("CONNACK ", p.Code, mark(p.Present, " present"))
 	case api.Publish:
-		return fmt.Sprint("PUBLISH ", p.Topic, "=", p.Payload, mark(p.QoS > 0, fmt.Sprint(" QoS ", p.QoS)), mark(p.Dup, " dup"), mark(p.Retain, " retain"))
+		return fmt.Sprint("PUBLISH ", p.Topic, "=", p.Payload, mark(p.QoS > 0, fmt.Sprint(" QoS ", p.QoS, " Id ", p.Id)), mark(p.Dup, " dup"), mark(p.Retain, " retain"))
 	case api.Suback:
 		return fmt.Sprintf("SUBACK %d %v", p.Id, p.Codes)
-	case api.Unsuback:
-		return fmt.Sprint("UNSUBACK ", p.Id)
+	case api.Puback, api.Pubrec, api.Pubrel, api.Pubcomp, api.Unsuback:
+		return fmt.Sprint(names[p.Kind], " ", p.Id)
 	case api.Pingresp:
 		return "PINGRESP"
 	}

@@ -13,6 +13,7 @@ import (
 
 // Broker of messages.
 type Broker struct {
+	config   api.Config
 	conns    [api.MaxConns]*connection // nil: not open
 	sessions map[string]*sessions.Session
 	retained messages.Retained
@@ -40,7 +41,7 @@ func New(c api.Config) (*Broker, api.Errno) {
 	if c.Window < 1 || c.Window > api.MaxWindow || c.Queue < 0 || c.Queue > api.MaxQueue {
 		return nil, api.ErrConfig
 	}
-	return &Broker{sessions: make(map[string]*sessions.Session)}, api.OK
+	return &Broker{config: c, sessions: make(map[string]*sessions.Session)}, api.OK
 }
 
 // Open opens a connection (P4).

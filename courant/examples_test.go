@@ -32,21 +32,22 @@ func (l *trial) sendRaw(conn int, p api.Packet, want string) {
 	l.wantRaw(out, e, want)
 }
 
-// TestExample3, as far as it needs no QoS.
 func TestExample3(t *testing.T) {
-	l := start(t)
+	l := startWith(t, 1, 1)
 	l.open(0)
 	l.sendRaw(0, lasting("c"), "0: 32 2 0 0")
-	p := asking("a/+")
-	p.Filters[0].QoS = 1
-	l.sendRaw(0, p, "0: 144 3 0 5 1")
+	l.sendRaw(0, wanting(1, "a/+"), "0: 144 3 0 5 1")
 	l.open(1)
 	l.sendRaw(1, clean("d"), "1: 32 2 0 0")
-	l.sendRaw(1, message("a/x", "hi"), "0: 48 7 0 3 97 47 120 104 105")
+	l.sendRaw(1, withQoS(message("a/x", "hi"), 2, 9), "0: 50 9 0 3 97 47 120 0 1 104 105; 1: 80 2 0 9")
+	l.sendRaw(1, withQoS(message("a/x", "ho"), 2, 10), "1: 80 2 0 10")
+	l.sendRaw(1, withQoS(message("a/x", "he"), 2, 11), "1: 80 2 0 11")
+	l.sendRaw(0, api.Packet{Kind: api.Puback, Id: 1}, "0: 50 9 0 3 97 47 120 0 2 104 111")
 	out, e := l.b.Close(0)
 	l.wantRaw(out, e, "0: closed")
 	l.open(0)
-	l.sendRaw(0, lasting("c"), "0: 32 2 1 0")
+	l.sendRaw(0, lasting("c"), "0: 32 2 1 0; 0: 58 9 0 3 97 47 120 0 2 104 111")
+	l.sendRaw(0, api.Packet{Kind: api.Puback, Id: 2}, "")
 }
 
 func TestExample4(t *testing.T) {

@@ -39,15 +39,15 @@ func (b *Broker) beforeConnect(c *connection) handlers {
 // onceConnected is what is done with all packets behind the first one.
 func (b *Broker) onceConnected(c *connection) handlers {
 	h := b.nothingAllowed(c)
-	h[packets.Publish] = func(p api.Packet) { b.publish(messages.Of(p)) }
+	h[packets.Publish] = func(p api.Packet) { b.receive(c, p) }
+	h[packets.Puback] = func(p api.Packet) { c.session.Done(p.Id) }
+	h[packets.Pubrec] = func(p api.Packet) { c.session.Release(p.Id) }
+	h[packets.Pubrel] = func(p api.Packet) { b.forget(c, p) }
+	h[packets.Pubcomp] = func(p api.Packet) { c.session.Complete(p.Id) }
 	h[packets.Subscribe] = func(p api.Packet) { b.subscribe(c, p) }
 	h[packets.Unsubscribe] = func(p api.Packet) { b.unsubscribe(c, p) }
 	h[packets.Pingreq] = func(api.Packet) { b.write(c, api.Packet{Kind: packets.Pingresp}) }
 	h[packets.Disconnect] = func(api.Packet) { b.shut(c) }
-	// These may come in, but without QoS there is nothing that they speak of.
-	for _, kind := range []int{packets.Puback, packets.Pubrec, packets.Pubrel, packets.Pubcomp} {
-		h[kind] = func(api.Packet) {}
-	}
 	return h
 }
 
@@ -68,7 +68,7 @@ func (b *Broker) connect(c *connection, p api.Packet) {
 	}
 	s, present := b.sessions[p.Client]
 	if !present {
-		s = &sessions.Session{}
+		s = sessions.New(b.config)
 		b.sessions[p.Client] = s
 	}
 	c.session, c.hello, c.handlers = s, p, b.onceConnected(c)
@@ -79,6 +79,27 @@ func (b *Broker) connect(c *connection, p api.Packet) {
 func (b *Broker) refuse(c *connection, code int) {
 	b.write(c, api.Packet{Kind: packets.Connack, Code: code})
 	b.shut(c)
+}
+
+// receive publishes the message of a PUBLISH, but not one of QoS 2 that was
+// published already, and answers.
+func (b *Broker) receive(c *connection, p api.Packet) {
+	if p.QoS < 2 || c.session.Learn(p.Id) {
+		b.publish(messages.Of(p))
+	}
+	switch p.QoS {
+	case 1:
+		b.write(c, api.Packet{Kind: packets.Puback, Id: p.Id})
+	case 2:
+		b.write(c, api.Packet{Kind: packets.Pubrec, Id: p.Id})
+	}
+}
+
+// forget lets an Id be used for another message. It answers each time, since
+// the first answer may be lost.
+func (b *Broker) forget(c *connection, p api.Packet) {
+	c.session.Forget(p.Id)
+	b.write(c, api.Packet{Kind: packets.Pubcomp, Id: p.Id})
 }
 
 // publish retains a message, if it asks for that, and tells it to all sessions

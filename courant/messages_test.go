@@ -9,10 +9,20 @@ import (
 	"courant/api"
 )
 
-func withQoS(p api.Packet, qos int) api.Packet {
+// withQoS gives a PUBLISH a QoS and, but for QoS 0, an Id.
+func withQoS(p api.Packet, qos, id int) api.Packet {
 	p.QoS = qos
-	if p.Kind == api.Publish && qos > 0 {
-		p.Id = 9
+	if qos > 0 {
+		p.Id = id
+	}
+	return p
+}
+
+// wanting: a SUBSCRIBE of filters with a QoS.
+func wanting(qos int, filters ...string) api.Packet {
+	p := asking(filters...)
+	for i := range p.Filters {
+		p.Filters[i].QoS = qos
 	}
 	return p
 }
@@ -52,21 +62,21 @@ func TestToldOnceToWhoAsked(t *testing.T) {
 	l.send(2, message("a/c", "4"), "0 PUBLISH a/c=4")
 }
 
-// TestToldWithTheLesserQoS: as far as that is 0.
+// TestToldWithTheLesserQoS: of the message's and of the greatest that matches.
 func TestToldWithTheLesserQoS(t *testing.T) {
-	l := start(t)
-	l.join(0, clean("c"), "0 CONNACK 0")
-	l.join(1, clean("d"), "1 CONNACK 0")
-	p := asking("t", "u", "+")
-	p.Filters[0].QoS, p.Filters[1].QoS = 2, 1
-	l.send(0, p, "0 SUBACK 5 [2 1 0]")
-	for _, topic := range []string{"t", "u", "v"} {
-		l.send(1, message(topic, "1"), fmt.Sprintf("0 PUBLISH %s=1", topic))
-	}
-	for qos := 1; qos <= 2; qos++ {
-		out, e := l.b.Feed(1, bytesOf(t, withQoS(message("v", "2"), qos))...)
-		if e != api.OK || len(out) == 0 || show(out[:1]) != "0 PUBLISH v=2" {
-			t.Errorf("QoS %d: %q, error %d", qos, show(out), e)
+	for own := range 3 {
+		for asked := range 3 {
+			for other := range 3 {
+				l := start(t)
+				l.join(0, clean("c"), "0 CONNACK 0")
+				l.join(1, clean("d"), "1 CONNACK 0")
+				p := asking("t", "+", "u/#")
+				p.Filters[0].QoS, p.Filters[1].QoS, p.Filters[2].QoS = asked, other, 2
+				l.send(0, p, fmt.Sprintf("0 SUBACK 5 [%d %d 2]", asked, other))
+				qos := min(own, max(asked, other))
+				want := "0 PUBLISH t=1" + mark(qos > 0, fmt.Sprintf(" QoS %d Id 1", qos))
+				l.send(1, withQoS(message("t", "1"), own, 9), want+[]string{"", "; 1 PUBACK 9", "; 1 PUBREC 9"}[own])
+			}
 		}
 	}
 }
@@ -138,18 +148,24 @@ func TestRetainedByFiltersAndTopics(t *testing.T) {
 }
 
 func TestRetainedWithTheLesserQoS(t *testing.T) {
-	l := start(t)
-	l.join(0, clean("c"), "0 CONNACK 0")
-	for qos := range 3 {
-		if _, e := l.b.Feed(0, bytesOf(t, withQoS(retained(fmt.Sprint("t", qos), "1"), qos))...); e != api.OK {
-			t.Fatal(e)
+	for own := range 3 {
+		for asked := range 3 {
+			l := start(t)
+			l.join(0, clean("c"), "0 CONNACK 0")
+			l.send(0, withQoS(retained("t", "1"), own, 9), []string{"", "0 PUBACK 9", "0 PUBREC 9"}[own])
+			qos := min(own, asked)
+			l.send(0, wanting(asked, "+"), fmt.Sprintf("0 SUBACK 5 [%d]; 0 PUBLISH t=1%s retain", asked, mark(qos > 0, fmt.Sprintf(" QoS %d Id 1", qos))))
 		}
 	}
-	l.send(0, asking("+"), retainedAll("t0=1", "t1=1", "t2=1"))
-	// The QoS that stands with the filter counts, not that of the same one behind it.
-	p := asking("t0", "t0")
-	p.Filters[0].QoS = 2
-	l.send(0, p, "0 SUBACK 5 [2 0]; 0 PUBLISH t0=1 retain; 0 PUBLISH t0=1 retain")
+	// The QoS that stands with the filter counts, not that of the same one behind
+	// it, nor that of another one that matches.
+	l := startWith(t, 8, 8)
+	l.join(0, clean("c"), "0 CONNACK 0")
+	l.send(0, withQoS(retained("t", "1"), 2, 9), "0 PUBREC 9")
+	p := asking("t", "t", "+", "#")
+	p.Filters[0].QoS, p.Filters[2].QoS = 2, 1
+	l.send(0, p, "0 SUBACK 5 [2 0 1 0]; 0 PUBLISH t=1 QoS 2 Id 1 retain; 0 PUBLISH t=1 retain; "+
+		"0 PUBLISH t=1 QoS 1 Id 2 retain; 0 PUBLISH t=1 retain")
 }
 
 func TestManyFilters(t *testing.T) {
@@ -198,15 +214,13 @@ func TestSameFilter(t *testing.T) {
 	l := start(t)
 	l.join(0, clean("c"), "0 CONNACK 0")
 	l.join(1, clean("d"), "1 CONNACK 0")
-	p := asking("t", "u")
-	p.Filters[0].QoS, p.Filters[1].QoS = 1, 1
-	l.send(0, p, "0 SUBACK 5 [1 1]")
+	l.send(0, wanting(1, "t", "u"), "0 SUBACK 5 [1 1]")
 	l.send(0, asking("t"), "0 SUBACK 5 [0]")
 	l.send(0, leaving("u"), "0 UNSUBACK 5")
-	out, e := l.b.Feed(1, bytesOf(t, withQoS(message("t", "1"), 1))...)
-	if e != api.OK || len(out) == 0 || show(out[:1]) != "0 PUBLISH t=1" {
-		t.Errorf("%q, error %d", show(out), e)
-	}
+	l.send(1, withQoS(message("t", "1"), 1, 9), "0 PUBLISH t=1; 1 PUBACK 9")
+	l.send(1, withQoS(message("u", "1"), 1, 9), "1 PUBACK 9")
+	l.send(0, wanting(2, "t"), "0 SUBACK 5 [2]")
+	l.send(1, withQoS(message("t", "2"), 2, 9), "0 PUBLISH t=2 QoS 2 Id 1; 1 PUBREC 9")
 }
 
 func TestUnsubscribe(t *testing.T) {

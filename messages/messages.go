@@ -26,7 +26,7 @@ func (m Message) Told(qos int, retained bool) Message {
 	return m
 }
 
-// Packet is the PUBLISH of a message that is told with QoS 0.
-func (m Message) Packet() api.Packet {
-	return api.Packet{Kind: packets.Publish, Topic: m.Topic, Payload: m.Payload, Retain: m.Retain}
+// Packet is the PUBLISH by which a message is told; id is 0 if its QoS is.
+func (m Message) Packet(id int) api.Packet {
+	return api.Packet{Kind: packets.Publish, QoS: m.QoS, Retain: m.Retain, Topic: m.Topic, Payload: m.Payload, Id: id}
 }

@@ -35,10 +35,14 @@ func TestTold(t *testing.T) {
 }
 
 func TestPacket(t *testing.T) {
-	m := Message{Topic: "a", Payload: "1", Retain: true}
-	want := api.Packet{Kind: api.Publish, Topic: "a", Payload: "1", Retain: true}
-	if got := m.Packet(); !reflect.DeepEqual(got, want) {
-		t.Errorf("%+v: Packet = %+v", m, got)
+	for qos, id := range []int{0, 1, 65535} {
+		for _, retain := range []bool{false, true} {
+			m := Message{Topic: "a", Payload: "1", QoS: qos, Retain: retain}
+			want := api.Packet{Kind: api.Publish, Topic: "a", Payload: "1", QoS: qos, Retain: retain, Id: id}
+			if got := m.Packet(id); !reflect.DeepEqual(got, want) {
+				t.Errorf("%+v: Packet(%d) = %+v", m, id, got)
+			}
+		}
 	}
 }
 

@@ -12,11 +12,32 @@ import (
 // Session of a client.
 type Session struct {
 	filters []api.Filter
+	known   map[int]struct{} // Ids of what came in with QoS 2, till a PUBREL comes
 	send    func(api.Packet) // nil as long as it is not connected
+	window  int
+	waiting chan messages.Message
+	under   []underWay // in the order in which they went under way
+	last    int        // the Id that was given last
 }
 
-// Connect connects the session: what is told from now on is sent.
-func (s *Session) Connect(send func(api.Packet)) { s.send = send }
+// New makes a session that nothing was done with.
+func New(c api.Config) *Session {
+	return &Session{
+		known:   make(map[int]struct{}),
+		window:  c.Window,
+		waiting: make(chan messages.Message, c.Queue),
+	}
+}
+
+// Connect connects the session: what is under way is sent again, what waits
+// goes on, and what is told from now on is sent.
+func (s *Session) Connect(send func(api.Packet)) {
+	s.send = send
+	for _, u := range s.under {
+		s.write(u.again())
+	}
+	s.goOn()
+}
 
 // Disconnect leaves the session without a connection.
 func (s *Session) Disconnect() { s.send = nil }
@@ -24,7 +45,7 @@ func (s *Session) Disconnect() { s.send = nil }
 // Take gives the session a filter, in place of the same one; false, if it has
 // no room for another one.
 func (s *Session) Take(f api.Filter) bool {
-	if i := s.find(f.Filter); i >= 0 {
+	if i := s.findFilter(f.Filter); i >= 0 {
 		s.filters[i] = f
 		return true
 	}
@@ -37,7 +58,7 @@ func (s *Session) Take(f api.Filter) bool {
 
 // Drop takes a filter away, if the session has it.
 func (s *Session) Drop(filter string) {
-	if i := s.find(filter); i >= 0 {
+	if i := s.findFilter(filter); i >= 0 {
 		s.filters = slices.Delete(s.filters, i, i+1)
 	}
 }
@@ -54,19 +75,36 @@ func (s *Session) Asks(topic string) (qos int, asked bool) {
 	return qos, asked
 }
 
-// Tell tells a message to the session. Only what is told with QoS 0 is sent so
-// far: the others need Ids, and a place to wait.
-func (s *Session) Tell(m messages.Message) {
-	if s.send != nil && m.QoS == 0 {
-		s.send(m.Packet())
+// Learn makes an Id known; false, if it was known already.
+func (s *Session) Learn(id int) bool {
+	if _, known := s.known[id]; known {
+		return false
 	}
+	s.known[id] = struct{}{}
+	return true
 }
+
+// Forget makes an Id known no more.
+func (s *Session) Forget(id int) { delete(s.known, id) }
 
 // Look tells how the session stands.
 func (s *Session) Look() api.Look {
-	return api.Look{There: true, Connected: s.send != nil, Filters: len(s.filters)}
+	return api.Look{
+		There:     true,
+		Connected: s.send != nil,
+		Filters:   len(s.filters),
+		Waiting:   len(s.waiting),
+		Under:     len(s.under),
+	}
 }
 
-func (s *Session) find(filter string) int {
+// write sends a packet, if there is someone to send it to.
+func (s *Session) write(p api.Packet) {
+	if s.send != nil {
+		s.send(p)
+	}
+}
+
+func (s *Session) findFilter(filter string) int {
 	return slices.IndexFunc(s.filters, func(f api.Filter) bool { return f.Filter == filter })
 }

@@ -10,7 +10,7 @@ import (
 )
 
 func TestTakeAndDrop(t *testing.T) {
-	var s Session
+	s := New(api.Config{Window: 1})
 	for i := range 6 {
 		if !s.Take(api.Filter{Filter: fmt.Sprint(i)}) {
 			t.Fatalf("filter %d was not taken", i)
@@ -37,7 +37,7 @@ func TestTakeAndDrop(t *testing.T) {
 }
 
 func TestAsks(t *testing.T) {
-	var s Session
+	s := New(api.Config{Window: 1})
 	for _, f := range []api.Filter{{Filter: "a/+", QoS: 1}, {Filter: "a/b", QoS: 2}, {Filter: "a/#"}, {Filter: "+"}} {
 		s.Take(f)
 	}
@@ -57,7 +57,7 @@ func TestAsks(t *testing.T) {
 }
 
 func TestTell(t *testing.T) {
-	var s Session
+	s := New(api.Config{Window: 1})
 	var sent []api.Packet
 	s.Tell(messages.Message{Topic: "a", Payload: "too early"})
 	s.Connect(func(p api.Packet) { sent = append(sent, p) })
@@ -75,7 +75,7 @@ func TestTell(t *testing.T) {
 }
 
 func TestLook(t *testing.T) {
-	var s Session
+	s := New(api.Config{Window: 1})
 	if got := s.Look(); got != (api.Look{There: true}) {
 		t.Errorf("at first: %+v", got)
 	}
